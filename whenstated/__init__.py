@@ -1,0 +1,1 @@
+"""What came when: statements about times, what follows from them, which to doubt."""
