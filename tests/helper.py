@@ -59,27 +59,79 @@ def shown(a):
     return [12, a]
 
 
+def why(a, b):
+    return [13, a, b]
+
+
+def needless(k):
+    return [14, k]
+
+
+def if_of(a, b, lo, hi):
+    return [15, a, b, lo, hi]
+
+
+def slack(k):
+    return [16, k]
+
+
+def pinned():
+    return [17]
+
+
+def order(a, b):
+    return [18, a, b]
+
+
+def doubt(m):
+    return [19, m]
+
+
+def who(m):
+    return [20, m]
+
+
+def peel():
+    return [21]
+
+
+def web():
+    return [22]
+
+
+def walk(a, *way):
+    return [23, a, len(way), *way]
+
+
+def told():
+    return [24]
+
+
+def alone(w):
+    return [25, w]
+
+
 def join(calls):
     return [number for call in calls for number in call]
 
 
-def cut(told):
+def cut(numbers):
     """The answers, one list each."""
     cut_out = []
     at = 0
-    while at < len(told):
-        past = at + 1 + told[at]
-        cut_out.append(told[at + 1:past])
+    while at < len(numbers):
+        past = at + 1 + numbers[at]
+        cut_out.append(numbers[at + 1:past])
         at = past
-    assert at == len(told), "the last answer is cut short"
+    assert at == len(numbers), "the last answer is cut short"
     return cut_out
 
 
 def ask(*calls):
     """The answers of these calls, one list each."""
-    told = cut(answers(join(calls)))
-    assert len(told) == len(calls), "not one answer for each call"
-    return told
+    answered = cut(answers(join(calls)))
+    assert len(answered) == len(calls), "not one answer for each call"
+    return answered
 
 
 def last(*calls):
@@ -92,7 +144,7 @@ def probes(n, statements):
 
     statements holds what was said, as say's numbers; n is how many events there are.
     """
-    calls = [fit(), ring(), early(n), late(n - 1), tried(*[0] * n), shown(0)]
+    calls = [told(), fit(), ring(), early(n), late(n - 1), tried(*[0] * n), shown(0), peel(), web()]
     calls += [bounds(a, b) for a in range(n) for b in range(n)]
     for k, w, a, b, lo, hi in statements:
         # Whether it stands, whose it is, and what it says when it stands by itself.

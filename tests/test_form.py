@@ -191,6 +191,21 @@ class Forms(unittest.TestCase):
                 if isinstance(sign, (ast.Is, ast.IsNot)):
                     self.assertIsInstance(right, ast.Constant, place)
 
+    def test_l22_pythons_own_functions_are_called_and_not_kept(self):
+        called = [node.func for place, node in nodes(ast.Call)]
+        called = {ast.dump(one, include_attributes=True) for one in called}
+        for place, node in nodes(ast.Name):
+            if node.id in OWN_NAMES and isinstance(getattr(builtins, node.id), (type, type(len))):
+                self.assertIn(ast.dump(node, include_attributes=True), called, place)
+
+    def test_l24_sets_stand_within_sorted_or_len_alone(self):
+        within = [one for place, node in nodes(ast.Call) if getattr(node.func, "id", None) in ("sorted", "len")
+                  for one in node.args if not node.keywords]
+        for place, node in nodes(ast.Set, ast.Call):
+            if isinstance(node, ast.Set) or getattr(node.func, "id", None) in ("set", "frozenset"):
+                dumped = [ast.dump(one, include_attributes=True) for one in within]
+                self.assertIn(ast.dump(node, include_attributes=True), dumped, place)
+
     def test_l23_walked_at_once(self):
         walked = set()
         for place, node in nodes(ast.For, ast.comprehension):

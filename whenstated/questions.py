@@ -1,40 +1,16 @@
-"""The questions, which change nothing. The numbers of their first rows are in their ranges."""
+"""The questions fit to shown, which change nothing. The numbers of their first rows are in their ranges."""
 
 from whenstated.refusals import BAD_LIST, CANNOT_BE
 from whenstated.rings import find_ring
-from whenstated.ways import can_all_be_true, find_bounds_from, find_bounds_to, list_edges, settle
+from whenstated.telling import tell_maybe, tell_maybe_turned, tell_truth, tell_way
+from whenstated.ways import can_all_be_true, find_bound, find_bounds_from, find_bounds_to, list_edges, settle
 
 FARTHEST_TIME = 1000000000000
 WEIGHT_OF_FURTHER_EDGES = 1000000000000
 
 
-def tell_maybe(number):
-    """Maybe a number, as two numbers; None is open."""
-    if number is None:
-        return [0, 0]
-    return [1, number]
-
-
-def tell_maybe_turned(number):
-    """Maybe the number with the other sign, as two numbers; None is open."""
-    if number is None:
-        return [0, 0]
-    return [1, -number]
-
-
-def tell_way(way):
-    """How many edges there are, and the key and the direction of each."""
-    told = [len(way)]
-    for edge in way:
-        told.append(edge.key)
-        told.append(edge.direction)
-    return told
-
-
 def fit(n, edges):
-    if can_all_be_true(n, edges):
-        return [1]
-    return [0]
+    return [tell_truth(can_all_be_true(n, edges))]
 
 
 def ring(n, edges):
@@ -48,8 +24,8 @@ def ring(n, edges):
 def bounds(n, edges, a, b):
     if not can_all_be_true(n, edges):
         return [CANNOT_BE]
-    back = find_bounds_from(n, edges, b)[a]
-    there = find_bounds_from(n, edges, a)[b]
+    back = find_bound(n, edges, b, a)
+    there = find_bound(n, edges, a, b)
     return tell_maybe_turned(back) + tell_maybe(there)
 
 

@@ -1,10 +1,13 @@
 """The calls on one collection of statements, answered one after another."""
 
 from whenstated.changes import answer_change
+from whenstated.doubts import answer_doubt
+from whenstated.follows import answer_follows
 from whenstated.kept import Kept
 from whenstated.questions import answer_question
 from whenstated.reading import has_numbers_in_range, read_calls
 from whenstated.refusals import OUT_OF_RANGE
+from whenstated.reports import answer_report
 
 
 def answer_call(kept, call):
@@ -14,7 +17,11 @@ def answer_call(kept, call):
     if answer is None:
         answer = answer_question(kept, call)
     if answer is None:
-        raise NotImplementedError("this call is read, but not answered yet")
+        answer = answer_follows(kept, call)
+    if answer is None:
+        answer = answer_doubt(kept, call)
+    if answer is None:
+        answer = answer_report(kept, call)
     return answer
 
 

@@ -66,3 +66,8 @@ def find_bounds_from(n, edges, event):
 def find_bounds_to(n, edges, event):
     """By event: the bound from it to the told one, None if it is open. The edges can all be true."""
     return find_bounds_from(n, turn_edges(edges), event)
+
+
+def find_bound(n, edges, a, b):
+    """The bound from a to b, None if it is open. The edges can all be true."""
+    return find_bounds_from(n, edges, a)[b]
